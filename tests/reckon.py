@@ -1,0 +1,170 @@
+"""What the tests reckon by themselves, in the plainest way, and values of all kinds."""
+
+from itertools import permutations, product
+
+PRIMES = (3, 5, 7, 11, 13)
+
+
+class Thing:
+    """A value of no kind that the program knows."""
+
+
+THING = Thing()
+
+# None of these is an INTEGER, a list or a tuple.
+NO_KIND = [None, True, False, "", "1", "3", "(0, 1)", b"", b"\x01", {}, {0: 1}, {"a": 0}, set(), {1}, range(2),
+           THING, Thing, len]
+NO_PRIMES = NO_KIND + [0, 1, 2, 4, 6, 8, 9, 10, 12, 14, 15, 17, -3, -5, 10 ** 29, [], [3], (3,), [[3]]]
+NO_SIZES = NO_KIND + [-1, 7, 8, 40, 10 ** 29, -10 ** 29, [], [1], (1,), [[1]]]
+
+
+def no_rests(prime):
+    return NO_KIND + [-1, -prime, prime, prime + 1, 10 ** 29, -10 ** 29, [], [0], (1,), [[1]]]
+
+
+def no_rows(prime, size):
+    """Values that are no row of this size; with the size None of no size from 0 to 6."""
+    bad = NO_KIND + [0, 1, prime, [[]], ((),), [[0]], [[0], [0]], [0] * 7, (0,) * 7, [1] * 41]
+    for length in [1, 2, 6] if size is None else [size or 1]:
+        for rest in [-1, prime, True, False, None, "0", [0], (0,), 10 ** 29]:
+            bad.append([0] * (length - 1) + [rest])
+            bad.append((rest,) + (0,) * (length - 1))
+    if size is not None:
+        bad += [[0] * length for length in range(8) if length != size]
+    return bad
+
+
+def no_tables(prime, size):
+    """Values that are no table of this size; with the size None of no size from 0 to 6."""
+    bad = NO_KIND + [0, 1, prime, [0], (1, 1), [[]], ((),), [[], []], [[0, 0]], [[0], [0]], [[0, 0], [0]], [[[0]]],
+                     [{0: 0}], ["0"], [None], [True], [THING], "table", [[0] * 7 for _ in range(7)]]
+    bad += [[[0] * 7 for _ in range(6)], [[0] * 6 for _ in range(7)], [[0] * 6 for _ in range(5)]]
+    for length in [1, 2, 6] if size is None else [size or 1]:
+        for rest in [-1, prime, True, False, None, "0", [0], 10 ** 29]:
+            table = [[0] * length for _ in range(length)]
+            table[-1][0] = rest
+            bad += [table, tuple(tuple(row) for row in table)]
+        bad += [[[0] * length] * (length - 1) + [row] for row in no_rows(prime, length)]
+    if size is not None:
+        bad += [[[0] * length for _ in range(length)] for length in range(8) if length != size]
+    return bad
+
+
+def no_row_lists(prime, size):
+    """Values that are no list of 0 to 40 rows of this size."""
+    bad = NO_KIND + [0, 1, prime, [[0] * size] * 41, ([0] * size,) * 41, [0], ["0"], [None], [THING]]
+    bad += [[[0] * size, row] for row in no_rows(prime, size)]
+    return bad + [[row] + [[0] * size] * 3 for row in no_rows(prime, size)]
+
+
+class Numbers:
+    """Numbers that look mixed, the same in each run."""
+
+    def __init__(self, seed):
+        self.now = seed + 1
+
+    def below(self, bound):
+        self.now = (self.now * 6364136223846793005 + 1442695040888963407) % 2 ** 64
+        return (self.now >> 33) % bound
+
+    def row(self, prime, size):
+        return [self.below(prime) for _ in range(size)]
+
+    def rows(self, prime, size, many):
+        return [self.row(prime, size) for _ in range(many)]
+
+    def table(self, prime, size):
+        return self.rows(prime, size, size)
+
+    def low_table(self, prime, size, rank):
+        """A table of this rank at most: each row a sum of multiples of a few."""
+        few = self.rows(prime, size, rank)
+        return [mixed(prime, size, self.row(prime, rank), few) for _ in range(size)]
+
+    def symmetric(self, prime, size):
+        table = self.table(prime, size)
+        return [[table[min(i, j)][max(i, j)] for j in range(size)] for i in range(size)]
+
+    def low_symmetric(self, prime, size, rank):
+        """A symmetric table of this rank at most."""
+        middle = self.symmetric(prime, rank)
+        sides = self.rows(prime, rank, size)
+        return [[between(prime, middle, x, y) for y in sides] for x in sides]
+
+    def undone(self, prime, size):
+        while True:
+            table = self.table(prime, size)
+            if determinant(prime, table) != 0:
+                return table
+
+
+def all_rows(prime, size):
+    return list(product(range(prime), repeat=size))
+
+
+def mixed(prime, size, rests, rows):
+    return tuple(sum(rest * row[place] for rest, row in zip(rests, rows)) % prime for place in range(size))
+
+
+def spanned(prime, size, rows):
+    """All sums of multiples of the rows, as a set."""
+    found = {(0,) * size}
+    for row in rows:
+        if tuple(row) not in found:
+            found = {tuple((a + rest * b) % prime for a, b in zip(old, row)) for old in found for rest in range(prime)}
+    return found
+
+
+def in_steps(rows):
+    """Whether the rows are in steps, by the words of the document."""
+    firsts = []
+    for row in rows:
+        places = [place for place, rest in enumerate(row) if rest != 0]
+        if not places or row[places[0]] != 1 or (firsts and places[0] <= firsts[-1]):
+            return False
+        firsts.append(places[0])
+    return all(row[first] == 0 for first in firsts for row in rows if row is not rows[firsts.index(first)])
+
+
+def determinant(prime, table):
+    """By all orders of the places."""
+    size, total = len(table), 0
+    for order in permutations(range(size)):
+        swaps = sum(1 for j in range(size) for i in range(j) if order[i] > order[j])
+        part = (-1) ** swaps
+        for at in range(size):
+            part *= table[at][order[at]]
+        total += part
+    return total % prime
+
+
+def multiplied(prime, table, other):
+    size = len(table)
+    return tuple(tuple(sum(table[i][k] * other[k][j] for k in range(size)) % prime for j in range(size))
+                 for i in range(size))
+
+
+def unit(size):
+    return tuple(tuple(1 if i == j else 0 for j in range(size)) for i in range(size))
+
+
+def turned(table):
+    return tuple(zip(*table))
+
+
+def between(prime, table, x, y):
+    size = len(table)
+    return sum(x[i] * table[i][j] * y[j] for i in range(size) for j in range(size)) % prime
+
+
+def sign(prime, rest):
+    if rest == 0:
+        return 0
+    return 1 if any(root * root % prime == rest for root in range(prime)) else -1
+
+
+def plain_kind(value):
+    """Whether the value is made of tuples, and of INTEGERS that are no bools."""
+    if isinstance(value, tuple):
+        return all(plain_kind(part) for part in value)
+    return type(value) is int

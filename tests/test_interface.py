@@ -1,0 +1,55 @@
+"""The interface that has landed: names, parameters, and the files that define them."""
+
+import ast
+import importlib
+import inspect
+import unittest
+
+FUNCTIONS = {
+    "rests": {
+        "is_prime": ["value"], "is_rest": ["prime", "value"], "undone_rest": ["prime", "rest"],
+        "sign_rest": ["prime", "rest"], "root": ["prime", "rest"], "least_odd": ["prime"],
+        "two_squares": ["prime", "rest"]},
+    "tables": {
+        "is_row": ["prime", "value"], "is_table": ["prime", "value"], "idle": ["size"],
+        "times": ["prime", "table", "other"], "led_row": ["prime", "row", "table"], "about": ["prime", "table"],
+        "determinant": ["prime", "table"], "undone": ["prime", "table"]},
+}
+CLASSES = {}
+
+
+class Interface(unittest.TestCase):
+
+    def test_functions(self):
+        for word, functions in FUNCTIONS.items():
+            module = importlib.import_module(f"restkeepers.{word}")
+            for name, wanted in functions.items():
+                function = getattr(module, name)
+                self.assertTrue(inspect.isfunction(function), name)
+                self.assertEqual(function.__module__, module.__name__)
+                self.assertEqual(list(inspect.signature(function).parameters), wanted, name)
+
+    def test_classes(self):
+        for word, classes in CLASSES.items():
+            module = importlib.import_module(f"restkeepers.{word}")
+            for name, (wanted, methods, properties) in classes.items():
+                made = getattr(module, name)
+                self.assertEqual(made.__module__, module.__name__)
+                self.assertEqual(list(inspect.signature(made).parameters), wanted, name)
+                for method, parameters in methods.items():
+                    self.assertEqual(list(inspect.signature(vars(made)[method]).parameters), ["self"] + parameters)
+                for one in properties:
+                    self.assertIsInstance(vars(made)[one], property)
+
+    def test_each_is_defined_in_its_file(self):
+        for word in list(FUNCTIONS) + list(CLASSES):
+            module = importlib.import_module(f"restkeepers.{word}")
+            with open(module.__file__, encoding="utf-8") as file:
+                tree = ast.parse(file.read())
+            defined = [node.name for node in tree.body if isinstance(node, (ast.FunctionDef, ast.ClassDef))]
+            for name in list(FUNCTIONS.get(word, {})) + list(CLASSES.get(word, {})):
+                self.assertEqual(defined.count(name), 1, name)
+
+
+if __name__ == "__main__":
+    unittest.main()
