@@ -65,6 +65,14 @@ def fits_any_table(prime, value):
     return fits_table(prime, len(value), value)
 
 
+def fits_symmetric(prime, value):
+    """Whether the value is a symmetric table of a size from 0 to 6."""
+    if not fits_any_table(prime, value):
+        return False
+    size = len(value)
+    return all([value[at][place] == value[place][at] for at in range(size) for place in range(at)])
+
+
 def need_prime(prime):
     """Raise InvalidPrime unless the prime is one."""
     if not fits_prime(prime):

@@ -128,3 +128,9 @@ def undoing_table(prime, table):
     if tuple([step[:size] for step in told]) != idle_table(size):
         return None
     return tuple([step[size:] for step in told])
+
+
+def betweens_table(prime, table, rows):
+    """The betweens of each two of the rows, in the room of the table."""
+    led = [mixed_row(prime, len(table), row, table) for row in rows]
+    return tuple([tuple([dot(prime, first, second) for second in rows]) for first in led])

@@ -1,6 +1,6 @@
 """What the tests reckon by themselves, in the plainest way, and values of all kinds."""
 
-from itertools import permutations, product
+from itertools import combinations, permutations, product
 
 PRIMES = (3, 5, 7, 11, 13)
 
@@ -168,3 +168,72 @@ def plain_kind(value):
     if isinstance(value, tuple):
         return all(plain_kind(part) for part in value)
     return type(value) is int
+
+
+def told_basis(numbers, prime, size, rank):
+    """Rows in steps, as many as the rank."""
+    firsts = []
+    while len(firsts) < rank:
+        place = numbers.below(size)
+        if place not in firsts:
+            firsts.append(place)
+    firsts.sort()
+    basis = []
+    for first in firsts:
+        row = [0 if place < first or place in firsts else numbers.below(prime) for place in range(size)]
+        row[first] = 1
+        basis.append(tuple(row))
+    return basis
+
+
+def spanning(numbers, prime, size, basis, more):
+    """Rows that span the same as the basis: each of it with sums of those ahead, and some more, in any sequence."""
+    rows = []
+    for at, row in enumerate(basis):
+        rests = numbers.row(prime, at) + [1 + numbers.below(prime - 1)]
+        rows.append(list(mixed(prime, size, rests, basis[:at + 1])))
+    rows += [list(mixed(prime, size, numbers.row(prime, len(basis)), basis)) for _ in range(more)]
+    shuffled = []
+    while rows:
+        shuffled.append(rows.pop(numbers.below(len(rows))))
+    return shuffled
+
+
+def room_kind(prime, table):
+    """Size, rank and sign of a room: by the greatest part of the table about its middle that is undone."""
+    size = len(table)
+    for rank in range(size, 0, -1):
+        for places in combinations(range(size), rank):
+            found = determinant(prime, [[table[i][j] for j in places] for i in places])
+            if found:
+                return (size, rank, sign(prime, found))
+    return (size, 0, 1)
+
+
+def led_room(prime, table, by):
+    """The room's table led by another one: the betweens of its rows."""
+    return tuple(tuple(between(prime, table, x, y) for y in by) for x in by)
+
+
+def symmetric_tables(prime, size):
+    """All of them."""
+    places = [(i, j) for i in range(size) for j in range(i, size)]
+    for rests in all_rows(prime, len(places)):
+        at = dict(zip(places, rests))
+        yield [[at[min(i, j), max(i, j)] for j in range(size)] for i in range(size)]
+
+
+def room_samples(prime, size):
+    """Tables of rooms of all ranks, some with 0 along the middle."""
+    numbers = Numbers(1000 * size + prime)
+    found = [numbers.low_symmetric(prime, size, rank) for rank in range(size + 1)]
+    found += [numbers.symmetric(prime, size) for _ in range(3)]
+    for table in found[-3:] + found[:size + 1]:
+        found.append([[0 if i == j else table[i][j] for j in range(size)] for i in range(size)])
+    if size > 1:
+        found.append([[1 if i + j == size - 1 else 0 for j in range(size)] for i in range(size)])
+    return found
+
+
+def no_rooms(prime):
+    return NO_KIND + [0, prime, [], [[1]], (), (prime, ()), (prime, ((1,),)), "Room(3, ())"]

@@ -18,8 +18,41 @@ TABLES = """
 [True, False, True, False, True, 1]
 """
 
+STEPS = """
+>>> from restkeepers.steps import made_of, rank, steps, zeros
+>>> rows = [[1, 2, 0], [2, 1, 1], [0, 0, 2]]
+>>> [steps(3, 3, rows), rank(3, 3, rows), zeros(3, 3, rows), made_of(3, 3, rows, [2, 1, 2]), made_of(3, 3, rows, (0, 1, 0)), zeros(3, 2, [])]
+[[(1, 2, 0), (0, 0, 1)], 2, [(1, 1, 0)], [2, 2], None, [(1, 0), (0, 1)]]
+"""
+
+ROOMS = """
+>>> from restkeepers.rooms import Room
+>>> cross, flat = Room(3, [[1, 0], [0, 2]]), Room(3, [[1, 1], [1, 1]])
+>>> [cross.worth([1, 1]), cross.between((1, 2), (0, 1)), cross.rank, flat.rank, flat.still(), cross.led([[1, 1], [0, 1]])]
+[0, 1, 2, 1, [(1, 2)], Room(3, ((0, 2), (2, 2)))]
+>>> [Room(5, []).size, Room(5, []).rank, Room(5, ()).still(), Room(7, [[0]]).still(), cross.rows()]
+[0, 0, [], [(1,)], ((1, 0), (0, 2))]
+"""
+
+KEEPING = """
+>>> from restkeepers.keeping import bend, is_bend, is_keeper, is_lead, is_still, right_angles
+>>> [is_keeper(cross, [[2, 0], [0, 1]]), is_keeper(cross, [[0, 1], [1, 0]]), bend(cross, [[0, 1], [1, 0]]), is_bend(cross, [[0, 1], [1, 0]], (1, 1)), bend(flat, [[0, 1], [0, 1]]), is_keeper(flat, [[0, 1], [0, 1]])]
+[True, False, (0, 0), True, None, False]
+>>> [is_lead(Room(3, [[1, 0], [0, 1]]), Room(3, [[2, 0], [0, 2]]), ((1, 1), (1, 2))), is_still(flat, (1, 2)), right_angles(cross, [[1, 1]]), right_angles(flat, [(1, 2)]), right_angles(cross, [])]
+[True, True, [(1, 1)], [(1, 0), (0, 1)], [(1, 0), (0, 1)]]
+"""
+
+PLAIN = """
+>>> from restkeepers.plain import kind_of, plain_by, plain_lead, plain_room, squares_lead
+>>> from restkeepers.rooms import Room
+>>> pair, odd = Room(3, ((0, 1), (1, 0))), Room(7, ((3, 0, 0), (0, 0, 0), (0, 0, 3)))
+>>> [kind_of(pair), plain_room(pair).rows(), kind_of(odd), plain_room(odd).rows(), kind_of(Room(5, ())), plain_by(5, (2, 1, -1)).rows(), odd.led(plain_lead(odd)) == plain_room(odd)]
+[(2, 2, -1), ((1, 0), (0, 2)), (3, 2, 1), ((1, 0, 0), (0, 1, 0), (0, 0, 0)), (0, 0, 1), ((2, 0), (0, 0)), True]
+"""
+
 # In their sequence: names stand for what they were in the last example that gave them.
-EXAMPLES = [("rests", RESTS), ("tables", TABLES)]
+EXAMPLES = [("rests", RESTS), ("tables", TABLES), ("steps", STEPS), ("rooms", ROOMS), ("keeping", KEEPING),
+            ("plain", PLAIN)]
 
 
 class Examples(unittest.TestCase):

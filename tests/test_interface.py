@@ -14,8 +14,24 @@ FUNCTIONS = {
         "is_row": ["prime", "value"], "is_table": ["prime", "value"], "idle": ["size"],
         "times": ["prime", "table", "other"], "led_row": ["prime", "row", "table"], "about": ["prime", "table"],
         "determinant": ["prime", "table"], "undone": ["prime", "table"]},
+    "steps": {
+        "steps": ["prime", "size", "rows"], "rank": ["prime", "size", "rows"], "zeros": ["prime", "size", "rows"],
+        "made_of": ["prime", "size", "rows", "row"]},
+    "keeping": {
+        "is_lead": ["room", "other", "value"], "is_keeper": ["room", "value"], "bend": ["room", "table"],
+        "is_bend": ["room", "table", "value"], "is_still": ["room", "row"], "right_angles": ["room", "rows"]},
+    "plain": {
+        "kind_of": ["room"], "plain_room": ["room"], "plain_by": ["prime", "kind"], "squares_lead": ["room"],
+        "plain_lead": ["room"]},
 }
-CLASSES = {}
+# Of each class: the parameters of its constructor, its methods with theirs, its properties.
+CLASSES = {
+    "rooms": {
+        "Room": (["prime", "rows"],
+                 {"__init__": ["prime", "rows"], "rows": [], "worth": ["row"], "between": ["row", "other"], "still": [],
+                  "led": ["table"], "__eq__": ["other"], "__repr__": []},
+                 ["prime", "size", "rank"])},
+}
 
 
 class Interface(unittest.TestCase):
