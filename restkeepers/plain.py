@@ -4,7 +4,7 @@ from restkeepers.checks import MOST_SIZE, fits_count, fits_integer, need_prime
 from restkeepers.errors import InvalidKind
 from restkeepers.rests import least_odd, root, sign_rest
 from restkeepers.rooms import Room, need_room
-from restkeepers.sums import added_row, idle_table, inverse, mixed_row, scaled_row
+from restkeepers.sums import added_row, dot, idle_table, inverse, mixed_row, scaled_row
 
 
 def kind_of(room):
@@ -45,7 +45,7 @@ def squares_lead(room):
             # No between among the rows that are left is another than 0: they are still.
             return tuple(done + left)
         done.append(first)
-        left = [set_right(room, row, first) for row in left[1:]]
+        left = set_right(room, left[1:], first)
     return tuple(done)
 
 
@@ -82,10 +82,11 @@ def with_worth_first(room, rows):
     return rows
 
 
-def set_right(room, row, other):
-    """The row less so much of the other one that it stands at right angles to it."""
-    much = room.between(row, other) * inverse(room.prime, room.worth(other))
-    return added_row(room.prime, row, -much, other)
+def set_right(room, rows, other):
+    """The rows, each less so much of the other one that it stands at right angles to it."""
+    seen = mixed_row(room.prime, room.size, other, room.rows())
+    share = inverse(room.prime, dot(room.prime, seen, other))
+    return [added_row(room.prime, row, -dot(room.prime, seen, row) * share, other) for row in rows]
 
 
 def one_first(room, row, other):

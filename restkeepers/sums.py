@@ -134,3 +134,31 @@ def betweens_table(prime, table, rows):
     """The betweens of each two of the rows, in the room of the table."""
     led = [mixed_row(prime, len(table), row, table) for row in rows]
     return tuple([tuple([dot(prime, first, second) for second in rows]) for first in led])
+
+
+def mixed_rows(prime, size, table, rows):
+    """The sums of the rows of this size by each list of rests in the table."""
+    return [mixed_row(prime, size, rests, rows) for rests in table]
+
+
+def nought_rests(prime, size, rows):
+    """The told steps of all rests by which the rows of this size, multiplied and added up, come to nought."""
+    columns = [tuple([row[place] for row in rows]) for place in range(size)]
+    return zero_steps(prime, len(rows), columns)
+
+
+def filling_rows(prime, size, rows, more):
+    """Those of the further rows that are no sum of multiples of the rows and of the further ones ahead."""
+    told, found = told_steps(prime, size, rows), []
+    for row in more:
+        wider = told_steps(prime, size, told + [row])
+        if len(wider) > len(told):
+            found.append(tuple(row))
+            told = wider
+    return found
+
+
+def joined_tables(table, other):
+    """Both tables, one behind the other, and 0 elsewhere."""
+    upper = [tuple(row) + (0,) * len(other) for row in table]
+    return tuple(upper + [(0,) * len(table) + tuple(row) for row in other])

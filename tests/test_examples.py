@@ -50,9 +50,42 @@ PLAIN = """
 [(2, 2, -1), ((1, 0), (0, 2)), (3, 2, 1), ((1, 0, 0), (0, 1, 0), (0, 0, 0)), (0, 0, 1), ((2, 0), (0, 0)), True]
 """
 
+LIKENESS = """
+>>> from restkeepers.likeness import alike, lead
+>>> ones, twos = Room(3, ((1, 0), (0, 1))), Room(3, ((2, 0), (0, 2)))
+>>> [alike(ones, twos), twos.led(lead(ones, twos)) == ones, alike(ones, pair), lead(ones, pair), alike(ones, Room(5, ((1, 0), (0, 1))))]
+[True, True, False, None, False]
+"""
+
+PARTS = """
+>>> from restkeepers.parts import beside_part, is_part, meeting, own_room, part_of, still_in, sum_of
+>>> from restkeepers.rooms import Room
+>>> ball, flat = Room(3, [[1, 0, 0], [0, 1, 0], [0, 0, 1]]), Room(3, [[1, 0], [0, 0]])
+>>> [part_of(ball, [[2, 2, 2], [1, 1, 1]]), is_part(ball, [[1, 1, 1]]), is_part(ball, [[2, 0, 0]]), is_part(ball, []), own_room(ball, [(1, 0, 2), (0, 1, 2)]), still_in(flat, [(1, 0), (0, 1)]), still_in(Room(3, [[1, 1], [1, 1]]), [(1, 0), (0, 1)])]
+[[(1, 1, 1)], True, False, True, Room(3, ((2, 1), (1, 2))), [(0, 1)], [(1, 2)]]
+>>> [sum_of(ball, [(1, 0, 0)], [(1, 1, 0)]), meeting(ball, [(1, 0, 0), (0, 1, 0)], [(0, 1, 0), (0, 0, 1)]), meeting(flat, [(1, 0)], [(1, 1)]), sum_of(ball, [(1, 1, 1)], beside_part(ball, [(1, 1, 1)]))]
+[[(1, 0, 0), (0, 1, 0)], [(0, 1, 0)], [], [(1, 0, 0), (0, 1, 0), (0, 0, 1)]]
+"""
+
+KINDS = """
+>>> from restkeepers.kinds import alike_parts, is_kind, kinds, part_by, part_kind
+>>> [part_kind(ball, [(1, 1, 1)]), part_kind(flat, [(0, 1)]), part_kind(flat, [(1, 1)]), part_kind(ball, []), is_kind(ball, (2, 0, 1, 0)), alike_parts(ball, [(1, 0, 0)], [(0, 0, 1)])]
+[(1, 0, 1, 0), (1, 0, 1, 1), (1, 1, 1, 0), (0, 0, 1, 0), False, True]
+>>> [kinds(flat), part_kind(ball, part_by(ball, (2, 1, -1, 0))), len(kinds(ball))]
+[[(0, 0, 1, 0), (1, 0, 1, 1), (1, 1, 1, 0), (2, 1, 1, 1)], (2, 1, -1, 0), 8]
+"""
+
+MAPS = """
+>>> from restkeepers.maps import bar, goes_on, images_by, is_bar
+>>> from restkeepers.rooms import Room
+>>> ball, flat = Room(3, [[1, 0, 0], [0, 1, 0], [0, 0, 1]]), Room(3, [[0, 1, 0], [1, 0, 0], [0, 0, 0]])
+>>> [goes_on(ball, [(1, 1, 1)], [(1, 1, 2)]), bar(ball, [(1, 1, 1)], [(1, 0, 0)]), is_bar(flat, [(1, 0, 0)], [(0, 0, 1)], ("still", [2])), is_bar(ball, [(1, 0, 0)], [[0, 0, 0]], ("lost", [1]))]
+[True, ('between', 0, 0), True, True]
+"""
+
 # In their sequence: names stand for what they were in the last example that gave them.
 EXAMPLES = [("rests", RESTS), ("tables", TABLES), ("steps", STEPS), ("rooms", ROOMS), ("keeping", KEEPING),
-            ("plain", PLAIN)]
+            ("plain", PLAIN), ("likeness", LIKENESS), ("parts", PARTS), ("kinds", KINDS), ("maps", MAPS)]
 
 
 class Examples(unittest.TestCase):

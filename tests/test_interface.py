@@ -23,6 +23,18 @@ FUNCTIONS = {
     "plain": {
         "kind_of": ["room"], "plain_room": ["room"], "plain_by": ["prime", "kind"], "squares_lead": ["room"],
         "plain_lead": ["room"]},
+    "likeness": {
+        "alike": ["room", "other"], "lead": ["room", "other"]},
+    "parts": {
+        "is_part": ["room", "value"], "part_of": ["room", "rows"], "own_room": ["room", "part"],
+        "still_in": ["room", "part"], "sum_of": ["room", "part", "other"], "meeting": ["room", "part", "other"],
+        "beside_part": ["room", "part"]},
+    "kinds": {
+        "part_kind": ["room", "part"], "kinds": ["room"], "is_kind": ["room", "value"], "part_by": ["room", "kind"],
+        "alike_parts": ["room", "part", "other"]},
+    "maps": {
+        "images_by": ["room", "part", "table"], "goes_on": ["room", "part", "images"],
+        "bar": ["room", "part", "images"], "is_bar": ["room", "part", "images", "value"]},
 }
 # Of each class: the parameters of its constructor, its methods with theirs, its properties.
 CLASSES = {
