@@ -27,3 +27,17 @@ def model_rows(room, ones, sign, pairs):
     left = (size - len(table), rank - len(table), whole * sign * pairs_sign(room.prime, pairs))
     behind = plain_by(room.prime, left).rows()
     return lead(Room(room.prime, joined_tables(table, behind)), room)
+
+
+def most_pairs(room):
+    """The pair count of the room [62]."""
+    _, rank, sign = kind_of(room)
+    half = rank // 2
+    if rank % 2 == 1 or sign == pairs_sign(room.prime, half):
+        return half
+    return half - 1
+
+
+def pair_model(room):
+    """As many pairs as there are, one row behind the other, then the rows that are left, then still ones."""
+    return model_rows(room, 0, 1, most_pairs(room))

@@ -25,6 +25,9 @@ def scaled_row(prime, rest, row):
 
 def added_row(prime, row, rest, other):
     """The row and the rest times the other row, added."""
+    # Most rows that are cleared have nothing to take off.
+    if rest == 0:
+        return tuple(row)
     return tuple([(old + rest * new) % prime for old, new in zip(row, other)])
 
 
@@ -162,3 +165,20 @@ def joined_tables(table, other):
     """Both tables, one behind the other, and 0 elsewhere."""
     upper = [tuple(row) + (0,) * len(other) for row in table]
     return tuple(upper + [(0,) * len(table) + tuple(row) for row in other])
+
+
+def solved_row(prime, size, rows, rests):
+    """A row whose sums of products with the rows, free ones, are the rests."""
+    joined = [tuple(row) + (rest,) for row, rest in zip(rows, rests)]
+    found = [0] * size
+    for step in told_steps(prime, size + 1, joined):
+        found[first_place(step)] = step[size]
+    return tuple(found)
+
+
+def power(prime, times):
+    """The prime taken so many times as a factor."""
+    product = 1
+    for _ in range(times):
+        product = product * prime
+    return product

@@ -2,7 +2,11 @@
 
 from itertools import combinations, product
 
-from tests.reckon import NO_KIND, all_rows, between, in_steps, mixed, no_rows, room_kind, room_samples, spanned, unit
+from restkeepers.plain import plain_by
+from restkeepers.rooms import Room
+from tests import reckon
+from tests.reckon import (NO_KIND, PRIMES, all_rows, between, in_steps, mixed, no_rows, room_kind, room_samples, spanned,
+                          unit)
 
 
 def tuples(rows):
@@ -141,3 +145,22 @@ def no_images(prime, size, many):
         for row in no_rows(prime, size):
             bad += [[good] * (many - 1) + [row], tuple([row] + [good] * (many - 1))]
     return bad
+
+
+def all_rooms():
+    """Rooms of all primes and sizes, of all ranks."""
+    return [Room(prime, table) for prime in PRIMES for size in range(7) for table in room_samples(prime, size)]
+
+
+def plain_rooms(prime, size):
+    """A room of each kind."""
+    return [plain_by(prime, (size, rank, sign)) for rank in range(size + 1) for sign in (1, -1) if rank or sign == 1]
+
+
+def pair_total(room):
+    """The pair count, by the words of [62]."""
+    _, rank, sign = room_kind(room.prime, room.rows())
+    minus = reckon.sign(room.prime, room.prime - 1)
+    if rank % 2:
+        return (rank - 1) // 2
+    return rank // 2 if sign == minus ** (rank // 2) else rank // 2 - 1

@@ -83,9 +83,44 @@ MAPS = """
 [True, ('between', 0, 0), True, True]
 """
 
+GOING = """
+>>> from restkeepers.going import continues, keeper_on, leads_part, part_lead
+>>> [continues(ball, [(1, 1, 1)], [(1, 1, 2)], [[1, 0, 0], [0, 1, 0], [0, 0, 2]]), keeper_on(flat, [(1, 0, 0)], [(0, 0, 1)]), continues(flat, [(1, 0, 0)], [(2, 0, 1)], keeper_on(flat, [(1, 0, 0)], [(2, 0, 1)]))]
+[True, None, True]
+>>> [leads_part(ball, [(1, 1, 1)], [(1, 2, 1)], part_lead(ball, [(1, 1, 1)], [(1, 2, 1)])), part_lead(ball, [(1, 0, 0)], [(1, 1, 0)]), part_lead(ball, [], []) is None]
+[True, None, False]
+"""
+
+NOUGHTS = """
+>>> from restkeepers.noughts import greatest_nought, is_greatest, is_nought, nought_row, nought_size
+>>> from restkeepers.rooms import Room
+>>> cross, plane = Room(5, [[1, 0, 0], [0, 1, 0], [0, 0, 0]]), Room(3, [[1, 0], [0, 1]])
+>>> [is_nought(cross, [(1, 2, 0)]), is_nought(cross, [(1, 0, 0)]), nought_size(cross), nought_size(plane), nought_row(plane), greatest_nought(cross, [(1, 2, 0)])]
+[True, False, 2, 0, None, [(1, 2, 0), (0, 0, 1)]]
+>>> [is_greatest(cross, [(1, 3, 0), (0, 0, 1)]), is_greatest(cross, [(0, 0, 1)]), is_greatest(plane, []), is_greatest(cross, greatest_nought(cross, [])), cross.worth(nought_row(cross))]
+[True, False, True, True, 0]
+"""
+
+PAIRS = """
+>>> from restkeepers.pairs import is_pair_rows, pair_count, pair_rows, same_sort
+>>> [pair_count(cross), pair_count(plane), is_pair_rows(cross, ([((1, 2, 0), (3, 4, 0))], [], [(0, 0, 1)])), is_pair_rows(cross, pair_rows(cross)), is_pair_rows(plane, ([], [(1, 0), (0, 1)], []))]
+[1, 0, True, True, True]
+>>> [same_sort(cross, [(1, 2, 0), (0, 0, 1)], [(1, 3, 0), (0, 0, 1)]), same_sort(cross, [(1, 2, 0), (0, 0, 1)], [(1, 2, 0), (0, 0, 1)]), is_pair_rows(cross, ([((1, 2, 0), (2, 1, 0))], [], [(0, 0, 1)]))]
+[False, True, False]
+"""
+
+ROWCOUNTS = """
+>>> from restkeepers.rooms import Room
+>>> from restkeepers.rowcounts import row_count, rows_of, worth_counts
+>>> floor, wall = Room(3, [[1, 0], [0, 1]]), Room(5, [[0, 1, 0], [1, 0, 0], [0, 0, 0]])
+>>> [worth_counts(floor), rows_of(floor, 1), worth_counts(wall), row_count(Room(7, ()), 0)]
+[[1, 4, 4], [(0, 1), (0, 2), (1, 0), (2, 0)], [45, 20, 20, 20, 20], 1]
+"""
+
 # In their sequence: names stand for what they were in the last example that gave them.
 EXAMPLES = [("rests", RESTS), ("tables", TABLES), ("steps", STEPS), ("rooms", ROOMS), ("keeping", KEEPING),
-            ("plain", PLAIN), ("likeness", LIKENESS), ("parts", PARTS), ("kinds", KINDS), ("maps", MAPS)]
+            ("plain", PLAIN), ("likeness", LIKENESS), ("parts", PARTS), ("kinds", KINDS), ("maps", MAPS),
+            ("going", GOING), ("noughts", NOUGHTS), ("pairs", PAIRS), ("rowcounts", ROWCOUNTS)]
 
 
 class Examples(unittest.TestCase):

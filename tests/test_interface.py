@@ -35,6 +35,17 @@ FUNCTIONS = {
     "maps": {
         "images_by": ["room", "part", "table"], "goes_on": ["room", "part", "images"],
         "bar": ["room", "part", "images"], "is_bar": ["room", "part", "images", "value"]},
+    "going": {
+        "keeper_on": ["room", "part", "images"], "continues": ["room", "part", "images", "value"],
+        "part_lead": ["room", "part", "other"], "leads_part": ["room", "part", "other", "value"]},
+    "noughts": {
+        "is_nought": ["room", "part"], "nought_size": ["room"], "nought_row": ["room"],
+        "greatest_nought": ["room", "part"], "is_greatest": ["room", "value"]},
+    "pairs": {
+        "pair_count": ["room"], "pair_rows": ["room"], "is_pair_rows": ["room", "value"],
+        "same_sort": ["room", "part", "other"]},
+    "rowcounts": {
+        "row_count": ["room", "rest"], "worth_counts": ["room"], "rows_of": ["room", "rest"]},
 }
 # Of each class: the parameters of its constructor, its methods with theirs, its properties.
 CLASSES = {

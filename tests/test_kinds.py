@@ -5,12 +5,11 @@ import unittest
 from restkeepers.errors import InvalidKind, InvalidPart, InvalidRoom
 from restkeepers.kinds import alike_parts, is_kind, kinds, part_by, part_kind
 from restkeepers.parts import is_part
-from restkeepers.plain import plain_by
 from restkeepers.rooms import Room
 from tests import listing, reckon
 from tests.cases import Case
-from tests.listing import no_parts, some_part, tuples
-from tests.reckon import NO_KIND, PRIMES, Numbers, no_rooms, room_samples, unit
+from tests.listing import all_rooms, no_parts, plain_rooms, some_part, tuples
+from tests.reckon import NO_KIND, PRIMES, Numbers, no_rooms, unit
 
 SIZES = range(7)
 # No room has a part of such a kind.
@@ -39,14 +38,6 @@ def kinds_by_words(room):
                             (y > 0 or sign == e * minus ** s):
                         found.append((k, r, e, t))
     return found
-
-
-def all_rooms():
-    return [Room(prime, table) for prime in PRIMES for size in SIZES for table in room_samples(prime, size)]
-
-
-def plain_rooms(prime, size):
-    return [plain_by(prime, (size, rank, sign)) for rank in range(size + 1) for sign in (1, -1) if rank or sign == 1]
 
 
 class PartKinds(Case):
@@ -181,7 +172,7 @@ class PartsBy(Case):
                     room = room.led(Numbers(at).undone(prime, size))
                     wanted = kinds_by_words(room)
                     # Of the many kinds of the greatest rooms each place among them is taken by some prime.
-                    for kind in wanted if size < 5 else wanted[PRIMES.index(prime)::5]:
+                    for kind in wanted if size < 4 else wanted[PRIMES.index(prime)::5]:
                         self.check(room, kind)
 
     def test_no_part_of_the_room(self):
