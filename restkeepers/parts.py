@@ -17,10 +17,7 @@ from restkeepers.sums import (
 def is_part(room, value):
     """Whether any value is a part of the room."""
     need_room(room)
-    if not fits_rows(room.prime, room.size, value):
-        return False
-    # Rows in steps are their own told steps, others are not.
-    return told_steps(room.prime, room.size, value) == [tuple(row) for row in value]
+    return fits_steps(room.prime, room.size, value)
 
 
 def part_of(room, rows):
@@ -68,6 +65,14 @@ def beside_part(room, part):
     need_room(room)
     need_part(room, part)
     return filling_rows(room.prime, room.size, part, idle_table(room.size))
+
+
+def fits_steps(prime, size, value):
+    """Whether the value is a list in steps of rows of this size."""
+    if not fits_rows(prime, size, value):
+        return False
+    # Rows in steps are their own told steps, others are not.
+    return told_steps(prime, size, value) == [tuple(row) for row in value]
 
 
 def need_part(room, part):

@@ -238,5 +238,29 @@ def room_samples(prime, size):
     return found
 
 
+def no_mates(prime):
+    """Values that are no symmetric table of a size from 0 to 6."""
+    bad = no_tables(prime, None)
+    for size in range(2, 7):
+        for seed in range(3):
+            table = Numbers(seed + size).symmetric(prime, size)
+            at = seed % size
+            table[at][at - 1] = (table[at][at - 1] + 1) % prime
+            bad += [table, tuple(tuple(row) for row in table)]
+    return bad
+
+
 def no_rooms(prime):
     return NO_KIND + [0, prime, [], [[1]], (), (prime, ()), (prime, ((1,),)), "Room(3, ())"]
+
+
+def counted(prime, squares):
+    """How many rows have each worth in a room in squares: one square after the other."""
+    counts = [1] + [0] * (prime - 1)
+    for square in squares:
+        more = [0] * prime
+        for worth, many in enumerate(counts):
+            for rest in range(prime):
+                more[(worth + square * rest * rest) % prime] += many
+        counts = more
+    return counts

@@ -117,10 +117,44 @@ ROWCOUNTS = """
 [[1, 4, 4], [(0, 1), (0, 2), (1, 0), (2, 0)], [45, 20, 20, 20, 20], 1]
 """
 
+FRAMES = """
+>>> from restkeepers.frames import a_frame, frame_count, frames, is_frame
+>>> [frame_count(floor, [[1, 0], [0, 2]]), frame_count(floor, [[1, 0], [0, 1]]), is_frame(floor, [[2]], [[1, 2]]), is_frame(floor, [[2]], ((1, 0),)), a_frame(floor, [[0]])]
+[0, 8, True, False, None]
+>>> [frame_count(wall, [[0, 1], [1, 0]]), frame_count(wall, [[0]]), is_frame(wall, [[0]], [(0, 0, 1)]), len(frames(floor, [[1, 0], [0, 1]])), frames(wall, ())]
+[200, 40, False, 8, [[]]]
+"""
+
+PARTCOUNTS = """
+>>> from restkeepers.partcounts import fixing_count, holding_count, keeper_count, part_count, parts_with
+>>> from restkeepers.rooms import Room
+>>> square, three, flat = Room(3, ((1, 0), (0, 1))), Room(3, ((1, 0, 0), (0, 1, 0), (0, 0, 1))), Room(3, ((1, 0), (0, 0)))
+>>> [keeper_count(room) for room in [square, Room(3, ((1, 0), (0, 2))), three, flat, Room(5, ())]]
+[8, 4, 48, 12, 1]
+>>> [[part_count(three, kind) for kind in [(1, 0, 1, 0), (1, 1, 1, 0), (1, 1, -1, 0), (2, 0, 1, 0)]], parts_with(flat, (1, 1, 1, 0)), parts_with(flat, (1, 0, 1, 1)), holding_count(three, [(1, 1, 1)]), fixing_count(three, [(1, 1, 1)])]
+[[4, 3, 6, 0], [[(1, 0)], [(1, 1)], [(1, 2)]], [[(0, 1)]], 12, 6]
+"""
+
+BESIDE = """
+>>> from restkeepers.beside import beside, scaled, taken_off
+>>> [beside(square, flat).rows(), scaled(square, 2).rows(), taken_off(three, square).rows(), taken_off(square, Room(3, ((0, 1), (1, 0)))), taken_off(flat, flat) == Room(3, ())]
+[((1, 0, 0, 0), (0, 1, 0, 0), (0, 0, 1, 0), (0, 0, 0, 0)), ((2, 0), (0, 2)), ((1,),), None, True]
+"""
+
+TEXTS = """
+>>> from restkeepers.rooms import Room
+>>> from restkeepers.texts import is_of_sort, written
+>>> [written("room", Room(5, [[1, 2], [2, 0]])), written("row", (3, [1, 0])), written("part", (3, 2, [[1, 2]])), written("kind", (2, 1, -1)), is_of_sort("part", (3, 2, [[2, 1]]))]
+['room 5\\nline 1 2\\nline 2 0\\n', 'row 3 1 0\\n', 'part 3 2\\nline 1 2\\n', 'kind 2 1 -1\\n', False]
+>>> [written("bar", ("between", 0, 1)), written("bar", ("lost", [1, 2])), written("table", (7, [])), is_of_sort("bar", ("lost", [0, 0]))]
+['bar between 0 1\\n', 'bar lost 1 2\\n', 'table 7\\n', False]
+"""
+
 # In their sequence: names stand for what they were in the last example that gave them.
 EXAMPLES = [("rests", RESTS), ("tables", TABLES), ("steps", STEPS), ("rooms", ROOMS), ("keeping", KEEPING),
             ("plain", PLAIN), ("likeness", LIKENESS), ("parts", PARTS), ("kinds", KINDS), ("maps", MAPS),
-            ("going", GOING), ("noughts", NOUGHTS), ("pairs", PAIRS), ("rowcounts", ROWCOUNTS)]
+            ("going", GOING), ("noughts", NOUGHTS), ("pairs", PAIRS), ("rowcounts", ROWCOUNTS),
+            ("frames", FRAMES), ("partcounts", PARTCOUNTS), ("beside", BESIDE), ("texts", TEXTS)]
 
 
 class Examples(unittest.TestCase):

@@ -46,6 +46,16 @@ FUNCTIONS = {
         "same_sort": ["room", "part", "other"]},
     "rowcounts": {
         "row_count": ["room", "rest"], "worth_counts": ["room"], "rows_of": ["room", "rest"]},
+    "frames": {
+        "is_frame": ["room", "mates", "value"], "frame_count": ["room", "mates"], "a_frame": ["room", "mates"],
+        "frames": ["room", "mates"]},
+    "partcounts": {
+        "keeper_count": ["room"], "part_count": ["room", "kind"], "parts_with": ["room", "kind"],
+        "fixing_count": ["room", "part"], "holding_count": ["room", "part"]},
+    "beside": {
+        "beside": ["room", "other"], "scaled": ["room", "rest"], "taken_off": ["room", "other"]},
+    "texts": {
+        "sorts": [], "is_of_sort": ["sort", "value"], "written": ["sort", "value"]},
 }
 # Of each class: the parameters of its constructor, its methods with theirs, its properties.
 CLASSES = {

@@ -8,7 +8,7 @@ from restkeepers.rowcounts import row_count, rows_of, worth_counts
 from tests import reckon
 from tests.cases import Case
 from tests.listing import all_rooms, plain_rooms
-from tests.reckon import PRIMES, Numbers, all_rows, between, no_rests, no_rooms, symmetric_tables, unit
+from tests.reckon import PRIMES, Numbers, all_rows, between, counted, no_rests, no_rooms, symmetric_tables, unit
 
 SIZES = range(7)
 
@@ -19,18 +19,6 @@ def listed(room):
     for row in sorted(all_rows(room.prime, room.size)):
         found[between(room.prime, room.rows(), row, row)].append(row)
     return found
-
-
-def counted(prime, squares):
-    """How many rows have each worth in a room in squares: one square after the other."""
-    counts = [1] + [0] * (prime - 1)
-    for square in squares:
-        more = [0] * prime
-        for worth, many in enumerate(counts):
-            for rest in range(prime):
-                more[(worth + square * rest * rest) % prime] += many
-        counts = more
-    return counts
 
 
 class Listed(Case):
