@@ -1,4 +1,4 @@
-"""Every example of the interface that has landed, as it stands."""
+"""Every example of the interface, as it stands."""
 
 import doctest
 import unittest
@@ -150,11 +150,42 @@ TEXTS = """
 ['bar between 0 1\\n', 'bar lost 1 2\\n', 'table 7\\n', False]
 """
 
+READERS = """
+>>> from restkeepers.readers import read
+>>> [read("row 3 1 0\\n"), read("table 5\\nline 1\\n"), read("part 3 2\\n"), read("kind 2 1 -1 0\\n"), read("room 3\\n") == ("room", Room(3, []))]
+[('row', (3, (1, 0))), ('table', (5, ((1,),))), ('part', (3, 2, [])), ('kind', (2, 1, -1, 0)), True]
+"""
+
+CLAIMS = """
+>>> from restkeepers.claims import contrary, is_claim, is_paper_of, is_true
+>>> flat, turned = Room(3, [[1, 0], [0, 1]]), Room(3, [[1, 0], [0, 2]])
+>>> [is_true(("alike", flat, turned)), is_paper_of(("unlike", flat, turned), ((2, 2, 1), (2, 2, -1))), is_paper_of(("bends", flat, [[1, 1], [0, 1]]), (0, 0)), contrary(("keeps", flat, ((0, 1), (1, 0)))) == ("bends", flat, ((0, 1), (1, 0)))]
+[False, True, True, True]
+>>> [is_paper_of(("goes", flat, [[1, 0]], [[0, 2]]), [[0, 2], [1, 0]]), is_paper_of(("barred", flat, [[1, 0]], [[1, 1]]), ("between", 0, 0)), is_true(("nought", turned, [[1, 1]])), is_true(("led", flat, [[1, 0]], [[1, 1]])), is_claim(("nought", flat, [[2, 0]]))]
+[True, True, True, False, False]
+"""
+
+COMMANDS = """
+>>> from restkeepers.commands import is_command, is_deed
+>>> [is_command("room v 3 1,0 0,1"), is_command("room v 3 1, 0"), is_deed("claim k goes v p q"), is_command("rows p 3"), is_deed("undo")]
+[True, False, True, True, False]
+"""
+
+DESK = """
+>>> from restkeepers.desk import Desk
+>>> desk = Desk()
+>>> desk.do_all("room v 3 1,0,0 0,1,0 0,0,1", "rows p 3 1,1,1", "rows q 3 1,2,1", "claim k led v p q", "worth v 1,1,1", "keepers v", "partkind v p", "claim n nought v p", "rowcount v 0")
+['-', '-', '-', 'k true', '0', '48', '1 0 1 0', 'n true', '9']
+>>> desk.do_all("row q 0 1,0,0", "undo", "entry v 2 2 0", "states", "show v", "undo", "state k", "kind v", "names")
+['k false', 'row q 0 1,0,0', 'n false', 'k true, n false', '3 1,0,0 0,1,0 0,0,0', 'entry v 2 2 0', 'true', '3 3 1', 'p q v']
+"""
+
 # In their sequence: names stand for what they were in the last example that gave them.
 EXAMPLES = [("rests", RESTS), ("tables", TABLES), ("steps", STEPS), ("rooms", ROOMS), ("keeping", KEEPING),
             ("plain", PLAIN), ("likeness", LIKENESS), ("parts", PARTS), ("kinds", KINDS), ("maps", MAPS),
             ("going", GOING), ("noughts", NOUGHTS), ("pairs", PAIRS), ("rowcounts", ROWCOUNTS),
-            ("frames", FRAMES), ("partcounts", PARTCOUNTS), ("beside", BESIDE), ("texts", TEXTS)]
+            ("frames", FRAMES), ("partcounts", PARTCOUNTS), ("beside", BESIDE), ("texts", TEXTS),
+            ("readers", READERS), ("claims", CLAIMS), ("commands", COMMANDS), ("desk", DESK)]
 
 
 class Examples(unittest.TestCase):

@@ -120,9 +120,9 @@ class Listed(Case):
             if prime ** len(table) <= 49:
                 for many in range(4):
                     for at, mates in enumerate(mates_of(prime, many, seed)):
-                        if many < 3 or at % 2 == seed % 2:
+                        if many < 3 or at % 2 == seed % 4:
                             self.check(Room(prime, table), mates)
-            elif seed % 4 == 0:
+            elif seed % 7 == 0:
                 for mates in mates_of(prime, 1, seed) + mates_of(prime, 2, seed)[::2]:
                     self.check(Room(prime, table), mates)
 

@@ -1,4 +1,4 @@
-"""The interface that has landed: names, parameters, and the files that define them."""
+"""The interface: names, parameters, and the files that define them."""
 
 import ast
 import importlib
@@ -56,6 +56,12 @@ FUNCTIONS = {
         "beside": ["room", "other"], "scaled": ["room", "rest"], "taken_off": ["room", "other"]},
     "texts": {
         "sorts": [], "is_of_sort": ["sort", "value"], "written": ["sort", "value"]},
+    "readers": {"read": ["text"]},
+    "claims": {
+        "words": [], "is_claim": ["value"], "is_true": ["claim"], "contrary": ["claim"], "paper_of": ["claim"],
+        "is_paper_of": ["claim", "value"]},
+    "commands": {"is_name": ["value"], "is_command": ["value"], "is_deed": ["value"]},
+    "desk": {"tried": ["desk", "action"]},
 }
 # Of each class: the parameters of its constructor, its methods with theirs, its properties.
 CLASSES = {
@@ -64,7 +70,20 @@ CLASSES = {
                  {"__init__": ["prime", "rows"], "rows": [], "worth": ["row"], "between": ["row", "other"], "still": [],
                   "led": ["table"], "__eq__": ["other"], "__repr__": []},
                  ["prime", "size", "rank"])},
+    "desk": {
+        "Desk": ([],
+                 {"__init__": [], "do": ["command"], "do_all": ["*commands"], "attempt": ["*commands"],
+                  "attach": ["label", "paper"], "fits": ["label"], "claim_of": ["label"], "lines": [], "copy": [],
+                  "again": ["lines"], "__call__": ["command"], "__len__": [], "__getitem__": ["name"],
+                  "__contains__": ["name"]},
+                 ["names", "labels"]),
+        "Trial": (["desk"], {"__init__": ["desk"], "__enter__": [], "__exit__": ["kind", "value", "trace"]}, [])},
 }
+
+
+def parameters(function):
+    """The names of the parameters, one that takes all others with its star."""
+    return [("*" if one.kind == one.VAR_POSITIONAL else "") + one.name for one in inspect.signature(function).parameters.values()]
 
 
 class Interface(unittest.TestCase):
@@ -76,7 +95,7 @@ class Interface(unittest.TestCase):
                 function = getattr(module, name)
                 self.assertTrue(inspect.isfunction(function), name)
                 self.assertEqual(function.__module__, module.__name__)
-                self.assertEqual(list(inspect.signature(function).parameters), wanted, name)
+                self.assertEqual(parameters(function), wanted, name)
 
     def test_classes(self):
         for word, classes in CLASSES.items():
@@ -84,11 +103,17 @@ class Interface(unittest.TestCase):
             for name, (wanted, methods, properties) in classes.items():
                 made = getattr(module, name)
                 self.assertEqual(made.__module__, module.__name__)
-                self.assertEqual(list(inspect.signature(made).parameters), wanted, name)
-                for method, parameters in methods.items():
-                    self.assertEqual(list(inspect.signature(vars(made)[method]).parameters), ["self"] + parameters)
+                self.assertEqual(parameters(made), wanted, name)
+                for method, others in methods.items():
+                    member = vars(made)[method]
+                    first = "cls" if isinstance(member, classmethod) else "self"
+                    self.assertEqual(parameters(getattr(member, "__func__", member)), [first] + others, method)
                 for one in properties:
                     self.assertIsInstance(vars(made)[one], property)
+
+    def test_the_class_method(self):
+        desk = importlib.import_module("restkeepers.desk")
+        self.assertIsInstance(vars(desk.Desk)["again"], classmethod)
 
     def test_each_is_defined_in_its_file(self):
         for word in list(FUNCTIONS) + list(CLASSES):

@@ -5,7 +5,6 @@ import unittest
 from restkeepers.errors import InvalidRest, InvalidRoom, TooMany
 from restkeepers.rooms import Room
 from restkeepers.rowcounts import row_count, rows_of, worth_counts
-from tests import reckon
 from tests.cases import Case
 from tests.listing import all_rooms, plain_rooms
 from tests.reckon import PRIMES, Numbers, all_rows, between, counted, no_rests, no_rooms, symmetric_tables, unit
