@@ -158,8 +158,8 @@ def both_part_kinds(parts):
 
 def seen_positions(room, part):
     """All tuples of two positions of rows of the part whose between is not 0."""
-    seen, places = betweens_table(room.prime, room.rows(), part), range(len(part))
-    return [(first, second) for first in places for second in places if seen[first][second] != 0]
+    seen = betweens_table(room.prime, room.rows(), part)
+    return [(first, second) for first, row in enumerate(seen) for second, rest in enumerate(row) if rest != 0]
 
 
 def are_unlike(kinds, value):

@@ -191,9 +191,13 @@ def paper_edits(value):
 
 def small_claim_rooms():
     """Rooms of all primes about which claims are soon judged by listing."""
-    return [Room(prime, table) for prime, most in [(3, 4), (5, 3), (7, 2), (11, 2), (13, 2)] for size in range(most + 1)
-            for table in room_samples(prime, size)[::2 if size > 1 else 1]]
+    found = []
+    for prime, most in [(3, 4), (5, 3), (7, 2), (11, 2), (13, 2)]:
+        for size in range(most + 1):
+            tables = list(dict.fromkeys(map(tuples, room_samples(prime, size))))
+            found += [Room(prime, table) for table in (tables[:2] + tables[2::3] if size > 1 else tables[:3])]
+    return found
 
 
 def great_claim_rooms():
-    return [Room(prime, table) for prime in PRIMES for size in (4, 5, 6) for table in room_samples(prime, size)[size % 3::7]]
+    return [Room(prime, table) for prime in PRIMES for size in (4, 5, 6) for table in room_samples(prime, size)[size % 3::9]]

@@ -36,7 +36,8 @@ def seen(desk):
     lines = []
     other = desk.copy()
     try:
-        while True:
+        # No more deeds than these can be taken back.
+        for _ in range(301):
             lines.append(other.do("redo"))
     except NothingToRedo:
         pass

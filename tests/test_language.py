@@ -188,6 +188,34 @@ class Forms(unittest.TestCase):
             self.assertNotIsInstance(node.iter, (ast.Set, ast.SetComp), at)
             self.assertFalse(isinstance(node.iter, ast.Call) and ast.unparse(node.iter.func) == "set", at)
 
+    def test_views_and_ranges_are_iterated_at_once(self):
+        kept = ("range", "zip", "enumerate", "reversed", "map", "items", "keys", "values")
+        takers = ("list", "tuple", "dict", "sorted", "sum", "any", "all", "enumerate", "zip", "min", "max", "join")
+
+        def name_of(node):
+            return getattr(node.func, "id", getattr(node.func, "attr", None)) if isinstance(node, ast.Call) else None
+        for path, tree in TREES.items():
+            free = set()
+            for node in ast.walk(tree):
+                if isinstance(node, (ast.For, ast.comprehension)):
+                    free.add(node.iter)
+                elif name_of(node) in takers:
+                    free |= set(node.args)
+                elif isinstance(node, ast.Assign) and isinstance(node.targets[0], ast.Name):
+                    free.add(node.value)
+            for node in ast.walk(tree):
+                self.assertTrue(name_of(node) not in kept or node in free, f"{path.name}:{getattr(node, 'lineno', 0)}")
+
+    def test_words_that_bar_an_index(self):
+        for path, text in TEXTS.items():
+            self.assertIsNone(re.search(r"\(type\)|Meta|metaclass=", text), path)
+
+    def test_errors_that_are_caught_are_own(self):
+        own = {node.name for _, node in nodes(ast.ClassDef)}
+        for at, node in nodes(ast.ExceptHandler):
+            for one in getattr(node.type, "elts", [node.type]):
+                self.assertIn(getattr(one, "id", None), own, at)
+
     def test_exponents(self):
         for at, node in nodes(ast.BinOp):
             if isinstance(node.op, ast.Pow):

